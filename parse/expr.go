@@ -32,7 +32,7 @@ func (x exprReader) expr(least, deep int) api.Expr {
 // sign is the operation whose sign is next, if one is.
 func (x exprReader) sign() (int, bool) {
 	t := x.here()
-	if t.Kind != api.TokSign {
+	if !fixed(t) {
 		return 0, false
 	}
 	return calc.Op(t.Text)

@@ -140,14 +140,11 @@ func (n *node) fits(t api.Token) bool {
 		return t.Kind == api.TokNumber && is
 	case "sign":
 		_, is = calc.Op(t.Text)
-		return t.Kind == api.TokSign && is
+	default:
+		is = t.Text == strings.Trim(n.term, `"`)
 	}
-	text := strings.Trim(n.term, `"`)
-	kind := api.TokSign
-	if token.Word(text) {
-		kind = api.TokName
-	}
-	return t.Kind == kind && t.Text == text
+	// Of TokSign, or, if it is a Word, of TokName.
+	return is && (t.Kind == api.TokSign || token.Word(t.Text) && t.Kind == api.TokName)
 }
 
 // judge holds tokens against the document: the grammar, the names, what stands once, how deep parts are.

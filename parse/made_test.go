@@ -247,6 +247,17 @@ func tokens(l ...string) []api.Token {
 	return out
 }
 
+// signed is l with some of its Words of TokSign: in so many of 10 ones.
+func signed(r *rand.Rand, l []api.Token, often int) []api.Token {
+	l = slices.Clone(l)
+	for i := range l {
+		if token.Word(l[i].Text) && r.Intn(10) < often {
+			l[i].Kind = api.TokSign
+		}
+	}
+	return l
+}
+
 // spoiled is l with a few tokens that are others, more, fewer, or at each other's places.
 func spoiled(r *rand.Rand, l []api.Token) []api.Token {
 	l = slices.Clone(l)

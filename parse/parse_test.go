@@ -392,7 +392,8 @@ func TestNetOddTokens(t *testing.T) {
 	const whole = "colour n = int - 1 .. 3 ; colour c = enum red , blue ; colour p = pair n , c ; place a : n = 0 * 2 , 1 ; task t { var x : n ; when if ( x < 3 , ! 1 , - x ) ; join and ; split or ; in a ( x ) ; out a ( 1 ) ; cancel a ; after 5 ; many 1 , 2 , 1 ; } from a ; to a ;"
 	good := tokens(strings.Fields(whole)...)
 	rule := readGrammar()
-	if _, _, err := Net(good, 0); err != api.OK {
+	net, _, err := Net(good, 0)
+	if err != api.OK {
 		t.Fatal(err)
 	}
 	for i := range good {
@@ -402,6 +403,13 @@ func TestNetOddTokens(t *testing.T) {
 			}
 			l := slices.Clone(good)
 			l[i].Kind = kind
+			if kind == api.TokSign && token.Word(l[i].Text) {
+				// What stands in quotes may be of TokSign, also where it is a Word.
+				if n, at, err := Net(l, 7); at != 7 || err != api.OK || !reflect.DeepEqual(n, net) {
+					t.Errorf("%v: %d, %v, %+v", l[i], at, err, n)
+				}
+				continue
+			}
 			// Where a part of an expression may be, what is called a name now is one, but not a variable's.
 			_, want := judgeOfNet(rule).tells(l, 7)
 			if want != api.ErrForm && (want != api.ErrNone || kind != api.TokName) {
@@ -425,6 +433,45 @@ func TestNetOddTokens(t *testing.T) {
 	refusedNet(t, l[:9], 3, 3, api.ErrForm)
 	l[9].Kind = 9
 	refusedNet(t, l, 3, -45, api.ErrForm)
+}
+
+// P6.2, P6.3: a Word of TokSign is what stands in quotes, so what is wrong stands behind it; it is no NAME, and a sign of TokName is no sign.
+func TestWordsOfSigns(t *testing.T) {
+	sign := func(s string) api.Token { return api.Token{Kind: api.TokSign, Text: s} }
+	for _, s := range strings.Fields("colour place task from") {
+		refusedNet(t, []api.Token{sign(s)}, 1, 1, api.ErrForm)
+	}
+	for _, s := range strings.Fields("to var int and if ; x") {
+		refusedNet(t, []api.Token{sign(s)}, 1, 0, api.ErrForm)
+	}
+	for _, s := range strings.Fields("var when join split in out cancel after many") {
+		l := tokens("task", "t", "{", s)
+		l[3].Kind = api.TokSign
+		refusedNet(t, l, 1, 1, api.ErrForm)
+	}
+	for _, s := range strings.Fields("int enum pair") {
+		l := tokens("colour", "c", "=", s)
+		l[3].Kind = api.TokSign
+		refusedNet(t, l, 1, 1, api.ErrForm)
+	}
+	for _, c := range []struct {
+		t  api.Token
+		at int
+	}{{sign("if"), 1}, {sign("from"), 0}, {sign("or"), 0}, {sign("x"), 0}, {api.Token{Kind: api.TokNumber, Text: "if"}, 0}, {api.Token{Text: "if"}, 0}} {
+		if e, at, err := Expr([]api.Token{c.t}, 1, []string{"x", "if"}); at != c.at || err != api.ErrForm || !reflect.DeepEqual(e, api.Expr{}) {
+			t.Errorf("%v: %+v, %d, %v", c.t, e, at, err)
+		}
+	}
+	l := tokens("x", "+", "x")
+	l[1].Kind = api.TokName
+	if _, at, err := Expr(l, 1, []string{"x", "+"}); at != 10 || err != api.ErrForm {
+		t.Errorf("%d, %v", at, err)
+	}
+	again := tokens("task", "t", "{", "after", "1", ";", "after")
+	again[3].Kind = api.TokSign
+	refusedNet(t, again, 1, 60, api.ErrTwice)
+	again[3].Kind, again[6].Kind = api.TokName, api.TokSign
+	refusedNet(t, again, 1, 60, api.ErrTwice)
 }
 
 // P6.1, P6.2: a name is any text that is no Word.
@@ -523,7 +570,7 @@ func TestExprOfTrees(t *testing.T) {
 	names := []string{"x", "y", "z"}
 	for range 20000 {
 		e := m.tree(1+m.Intn(7), 3)
-		l := tokens(m.written(e, names, pick(m.Rand, 0, 0, 3, 20))...)
+		l := signed(m.Rand, tokens(m.written(e, names, pick(m.Rand, 0, 0, 3, 20))...), pick(m.Rand, 0, 5, 10))
 		if got, at, err := Expr(l, -1, names); err != api.OK || at != -1 || !reflect.DeepEqual(got, e) {
 			t.Fatalf("%q: %q, %d, %v", token.Join(l), expr.Text(got, names), at, err)
 		}
@@ -669,6 +716,9 @@ func TestMadeNets(t *testing.T) {
 		if at != 77 || err != api.OK || !reflect.DeepEqual(n, want) {
 			t.Fatalf("%q: %d, %v\n%+v\nnot\n%+v", l, at, err, n, want)
 		}
+		if n, at, err := Net(signed(r, tokens(l...), 1+r.Intn(10)), 77); at != 77 || err != api.OK || !reflect.DeepEqual(n, want) {
+			t.Fatalf("%q with Words of TokSign: %d, %v\n%+v\nnot\n%+v", l, at, err, n, want)
+		}
 		s, _ := spaced(r, l)
 		if n, at, err := Text(s); len(s) <= api.MaxText && (at != len(s) || err != api.OK || !reflect.DeepEqual(n, want)) {
 			t.Fatalf("%q: %d, %v\n%+v\nnot\n%+v", s, at, err, n, want)
@@ -683,7 +733,7 @@ func TestSpoiledNets(t *testing.T) {
 	told := map[api.Errno]int{}
 	for range 8000 {
 		_, pieces := madeNet(r)
-		l := spoiled(r, tokens(pieces...))
+		l := signed(r, spoiled(r, tokens(pieces...)), pick(r, 0, 1, 5, 10))
 		end := pick(r, 10*len(l), 5, -3)
 		wantAt, want := judgeOfNet(rule).tells(l, end)
 		n, at, err := Net(l, end)
@@ -706,7 +756,7 @@ func TestMixedExprs(t *testing.T) {
 	names := []string{"x", "y"}
 	told := map[api.Errno]int{}
 	for range 20000 {
-		l := mixedExpr(r)
+		l := signed(r, mixedExpr(r), pick(r, 0, 5, 10))
 		end := pick(r, 10*len(l), 5)
 		wantAt, want := judgeOfExpr(rule, names).tells(l, end)
 		e, at, err := Expr(l, end, names)

@@ -39,12 +39,13 @@ func (r *reader) wrong() { r.fail(r.here().At, api.ErrForm) }
 
 // is tells whether this word, or this sign, is next.
 func (r *reader) is(text string) bool {
-	kind := api.TokSign
-	if token.Word(text) {
-		kind = api.TokName
-	}
 	t := r.here()
-	return t.Kind == kind && t.Text == text
+	return t.Text == text && fixed(t)
+}
+
+// fixed tells whether t is what its text says in the grammar. A Word is that as a sign too, but a name only if it is a Word.
+func fixed(t api.Token) bool {
+	return t.Kind == api.TokSign || t.Kind == api.TokName && token.Word(t.Text)
 }
 
 // took tells whether this word, or this sign, was next, and goes over it.
