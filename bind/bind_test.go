@@ -391,6 +391,43 @@ func TestCheckChoices(t *testing.T) {
 	}
 }
 
+// P10.3, P10.4: joins and splits of no arc, one and several.
+func TestArcs(t *testing.T) {
+	ways := map[int][]int{api.All: {1, 1, 1, 1}, api.One: {0, 1, 2, 3}, api.Some: {0, 1, 3, 7}, 0: {0, 0, 0, 0}, 4: {0, 0, 0, 0}}
+	m := api.Marking{{{0, 1}, {1, 1}, {2, 1}}, nil, nil, nil}
+	for kind, counts := range ways {
+		for arcs, want := range counts {
+			n := drawn(api.Arc{Place: 0, Expr: num(3)})
+			n.Tasks[0].Vars = nil
+			n.Tasks[0].Split, n.Tasks[0].Outs = kind, nil
+			for i := range arcs {
+				n.Tasks[0].Outs = append(n.Tasks[0].Outs, api.Arc{Place: 0, Expr: num(3 + i)})
+			}
+			l := Modes(n, m, 0, 100)
+			if len(l) != want {
+				t.Errorf("split %d of %d: %+v", kind, arcs, l)
+			}
+			none := Check(n, m, api.Mode{Ins: []int{0}})
+			if is := kind == api.All && arcs == 0; is != (none == api.OK) || !is && none != api.ErrMode {
+				t.Errorf("split %d of %d: %v", kind, arcs, none)
+			}
+			task := &n.Tasks[0]
+			task.Join, task.Split, task.Ins, task.Outs = kind, api.All, task.Outs, task.Ins
+			// A join of some takes all that it can.
+			if kind == api.Some {
+				want = min(want, 1)
+			}
+			if l := Modes(n, m, 0, 100); len(l) != want {
+				t.Errorf("join %d of %d: %+v", kind, arcs, l)
+			}
+			none = Check(n, m, api.Mode{Outs: []int{0}})
+			if is := kind == api.All && arcs == 0; is != (none == api.OK) || !is && none != api.ErrMode {
+				t.Errorf("join %d of %d: %v", kind, arcs, none)
+			}
+		}
+	}
+}
+
 // P10.3: a join of Some takes all that it can, one by one; what tells an error, or is no member, it can't.
 func TestCheckSome(t *testing.T) {
 	three, four, five, red := api.Arc{Place: 0, Expr: num(3)}, api.Arc{Place: 0, Expr: num(4)}, api.Arc{Place: 0, Expr: num(5)}, api.Arc{Place: 1, Expr: num(0)}
@@ -634,6 +671,8 @@ func TestAgainstSecond(t *testing.T) {
 				if l := told.all(n, m); len(l) > 0 {
 					o = pick(r.Rand, l...)
 				}
+			} else if i < 16 {
+				o = r.mode(r.net())
 			}
 			env, err := Env(n, o.Task, o.Vars)
 			if want, e := told.env(n, o.Task, o.Vars); err != e || !slices.Equal(env, want) {
